@@ -285,7 +285,8 @@ func TestAll(t *testing.T) {
 		e    api.Errno
 	}{
 		// of no nodes
-		{api.Names{}, nil, nil, api.Names{}, api.OK}, {namesOf([]api.Node{}...), []api.Node{}, nil, api.Names{}, api.OK}, {ab, nil, nil, ab, api.OK}, {ab, []api.Node{}, nil, ab, api.OK},
+		{api.Names{}, nil, nil, api.Names{}, api.OK}, {namesOf([]api.Node{}...), []api.Node{}, nil, api.Names{}, api.OK}, {ab, nil, nil, ab, api.OK},
+		{ab, []api.Node{}, nil, ab, api.OK},
 		// of some, none of which are there, all of which are, and some of which are
 		{api.Names{}, []api.Node{a}, []int{0}, namesOf(a), api.OK}, {api.Names{}, []api.Node{c, a, b}, []int{0, 1, 2}, namesOf(c, a, b), api.OK},
 		{ab, []api.Node{d, c}, []int{2, 3}, namesOf(a, b, d, c), api.OK}, {ab, []api.Node{b, a}, []int{1, 0}, ab, api.OK}, {ab, []api.Node{a}, []int{0}, ab, api.OK},
